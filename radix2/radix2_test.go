@@ -494,7 +494,7 @@ func TestJustMaxPad(t *testing.T) {
 			continue
 		}
 		met++
-		// The first one is the sum of all, and the powers of each other root go out.
+		// The first one is the sum of all; the others are multiples of the sum of all powers of a root, which is 0.
 		want := alone(most, 0, f.P()-most%f.P())
 		back := alone(most, 0, f.P()-1)
 		for _, w := range ways() {
